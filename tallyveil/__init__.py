@@ -1,0 +1,1 @@
+"""Tallyveil: a house of counts that lets out tables with numbers left out."""
