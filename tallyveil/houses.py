@@ -89,6 +89,15 @@ def plain_text(text):
     return "".join(list(text))
 
 
+def plain_place(thing):
+    # What is made of other things than two texts may fail when it is compared with a place, or looked up.
+    if not isinstance(thing, tuple) or len(thing) != 2:
+        return None
+    if not all([isinstance(word, str) for word in thing]):
+        return None
+    return (plain_text(thing[0]), plain_text(thing[1]))
+
+
 def turned_about(above_of):
     beneath_of = {ALL: []}
     for part in above_of:

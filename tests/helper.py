@@ -36,6 +36,21 @@ class OddText(str):
         return 12345
 
 
+class WaywardText(str):
+    """A text that is cut up and compared otherwise than its signs are."""
+
+    def split(self, *args):
+        return []
+
+    def __eq__(self, other):
+        return False
+
+    def __ne__(self, other):
+        return True
+
+    __hash__ = str.__hash__
+
+
 Pair = namedtuple("Pair", "part column")
 
 
@@ -120,12 +135,49 @@ def some_houses(count):
     """Houses of all sizes; the same ones each time."""
     chance = random.Random(1)
     houses = [small_house(), land(), House([("a", "all")], names(8)),
-              House([(name, "all") for name in names(24)], names(8)),
+              greatest_house(),
               House([("a", "all")] + list(zip(names(23), ["a"] + names(22))), ["x", "y"])]
     while len(houses) < count:
         parts = some_parts(chance, chance.randint(1, 24))
         houses.append(House(parts, names(chance.randint(1, 8))))
     return houses
+
+
+def some_cells(chance, house):
+    """Counts for all cells, of all sizes, in any order."""
+    counts = {cell: chance.choice([0, 1, chance.randint(0, 99), 10 ** 18]) for cell in house.cells()}
+    return {cell: counts[cell] for cell in shuffled(chance, counts)}
+
+
+def odd_words_house():
+    """Parts and columns that are called like the words of a house's text."""
+    return House([("in", "all"), ("part", "in"), ("column", "part"), ("a", "in"), ("row", "all")],
+                 ["column", "in", "part"])
+
+
+def deepest_house(column_count=1):
+    """Twenty-four parts, each beneath the one ahead of it."""
+    return House(list(zip(names(24), ["all"] + names(23))), names(column_count))
+
+
+def greatest_house():
+    """Twenty-four rows and eight columns."""
+    return House([(name, "all") for name in names(24)], names(8))
+
+
+def shuffled(chance, things):
+    mixed = list(things)
+    chance.shuffle(mixed)
+    return mixed
+
+
+def one_sign_off(text, signs):
+    """The texts that lack one sign, have one more, or have another one at one place."""
+    for at in range(len(text) + 1):
+        for sign in signs:
+            yield text[:at] + sign + text[at:]
+            yield text[:at] + sign + text[at + 1:]
+        yield text[:at] + text[at + 1:]
 
 
 def dict_kinds(plain):

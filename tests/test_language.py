@@ -30,6 +30,8 @@ STATEMENTS = (ast.Assign, ast.AugAssign, ast.If, ast.While, ast.For, ast.Return,
 EXPRESSIONS = (ast.Constant, ast.List, ast.Tuple, ast.Dict, ast.Set, ast.BinOp, ast.UnaryOp, ast.BoolOp, ast.Compare,
                ast.IfExp, ast.Call, ast.Attribute, ast.Subscript, ast.Slice, ast.ListComp, ast.JoinedStr,
                ast.FormattedValue, ast.Name, ast.Lambda)
+KEYWORDS = {"sorted": ("key", "reverse"), "min": ("key", "default"), "max": ("key", "default"), "sum": ("start",),
+            "enumerate": ("start",), "zip": ("strict",)}
 CHANGERS = {"append", "clear", "extend", "insert", "pop", "remove", "reverse", "setdefault", "update"}
 
 
@@ -128,6 +130,34 @@ def faults_of_class(node):
     return faults + ([("L18", node.lineno)] if len(set(methods)) != len(methods) else [])
 
 
+def faults_of_handler(node):
+    caught = node.type.elts if isinstance(node.type, ast.Tuple) else [node.type]
+    named = all(isinstance(one, ast.Name) and one.id not in ("Exception", "TypeError") for one in caught)
+    return [] if named else [("L19", node.lineno)]
+
+
+def faults_of_keywords(node):
+    """Of Python's own that are called by their name."""
+    if not isinstance(node, ast.Call) or not isinstance(node.func, ast.Name) or node.func.id not in PYTHONS:
+        return []
+    allowed = KEYWORDS.get(node.func.id, ())
+    return [("L22", node.lineno) for keyword in node.keywords if keyword.arg not in allowed]
+
+
+def faults_of_locals(tree):
+    """Parameters and locals that are called like a class or an import of their file."""
+    taken = {node.name for node in tree.body if isinstance(node, ast.ClassDef)}
+    for node in tree.body:
+        if isinstance(node, ast.ImportFrom):
+            taken.update(alias.name for alias in node.names)
+    faults = []
+    for node in ast.walk(tree):
+        name = node.arg if isinstance(node, ast.arg) else node.id if isinstance(node, ast.Name) else None
+        if name in taken and not isinstance(getattr(node, "ctx", None), ast.Load):
+            faults.append(("L15", node.lineno))
+    return faults
+
+
 def faults_of_name(name, line):
     if name in DUNDERS:
         return []
@@ -177,12 +207,14 @@ def faults_of_methods(tree, own_methods):
 
 def faults_of(text, own_methods=frozenset()):
     tree = ast.parse(text)
-    faults = faults_of_text(text) + faults_of_top(tree) + faults_of_methods(tree, own_methods)
+    faults = faults_of_text(text) + faults_of_top(tree) + faults_of_methods(tree, own_methods) + faults_of_locals(tree)
     for node in ast.walk(tree):
         if isinstance(node, ast.stmt):
             faults.extend(faults_of_statement(node))
         elif isinstance(node, ast.expr):
-            faults.extend(faults_of_expression(node))
+            faults.extend(faults_of_expression(node) + faults_of_keywords(node))
+        elif isinstance(node, ast.ExceptHandler):
+            faults.extend(faults_of_handler(node))
         if isinstance(node, (ast.FunctionDef, ast.ClassDef)):
             faults.extend(faults_of_name(node.name, node.lineno))
         if isinstance(node, ast.arg):
@@ -258,6 +290,11 @@ class Checks(unittest.TestCase):
             "def f(a):\n    return a is f\n": "L20", "def f(a):\n    return getattr(a, 'b')\n": "L8",
             "def f(a):\n    a.sort()\n": "L25", "def f(a):\n    return a._b\n": "L12",
             "def f(a):\n    for b in a:\n        a.append(b)\n": "L23", "def f(a):\n    raise a\n": "L19",
+            "def f(a):\n    try:\n        a()\n    except Exception:\n        return 1\n": "L19",
+            "def f(a):\n    try:\n        a()\n    except:\n        return 1\n": "L19",
+            "def f(a):\n    return int(a, base=2)\n": "L22", "def f(a):\n    return dict(b=a)\n": "L22",
+            "from tallyveil.sums import added\n\n\ndef f(added):\n    return 1\n": "L15",
+            "class A:\n    pass\n\n\ndef f():\n    A = 1\n    return A\n": "L15",
             "class A:\n    x = 1\n": "L5", "# the type\n": "L17", "x = '\u00e4'\n": "L14", "\tx = 1\n".strip() + "\t\n": "L14",
             "# " + "x" * 120 + "\n": "L10", "def f(a):\n" + "    a = 1\n" * 40: "L10", "x = 1\n" + "\n" * 400: "L10",
         }

@@ -11,13 +11,6 @@ from tallyveil.tables import filled, is_table
 from tests import helper
 
 
-def some_cells(chance, house):
-    counts = {cell: chance.choice([0, 1, chance.randint(0, 99), 10 ** 18]) for cell in house.cells()}
-    mixed = list(counts)
-    chance.shuffle(mixed)
-    return {cell: counts[cell] for cell in mixed}
-
-
 def is_within(house, part, upper):
     """Whether a part is the upper one, or beneath it in however many steps."""
     while part not in (upper, "all"):
@@ -66,7 +59,7 @@ class Filled(unittest.TestCase):
     def test_many_houses(self):
         chance = random.Random(2)
         for house in helper.some_houses(60):
-            cells = some_cells(chance, house)
+            cells = helper.some_cells(chance, house)
             table = filled(house, cells)
             self.assertEqual(list(table.items()), list(reckoned(house, cells).items()))
             self.assertIs(is_table(house, table), True)
