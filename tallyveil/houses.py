@@ -1,6 +1,6 @@
 """Houses of counts: their parts and columns, and the places these make."""
 
-from tallyveil.errors import NoHouse
+from tallyveil.errors import NoHouse, NoPlace
 
 ALL = "all"
 
@@ -96,6 +96,30 @@ def plain_place(thing):
     if not all([isinstance(word, str) for word in thing]):
         return None
     return (plain_text(thing[0]), plain_text(thing[1]))
+
+
+def checked_place(house, thing):
+    place = plain_place(thing)
+    if place not in house.places():
+        raise NoPlace("this is no place of the house")
+    return place
+
+
+def among(house, places):
+    marks = marked(places)
+    return [place for place in house.places() if place in marks]
+
+
+def all_but(house, places):
+    marks = marked(places)
+    return [place for place in house.places() if place not in marks]
+
+
+def marked(places):
+    marks = {}
+    for place in places:
+        marks[place] = True
+    return marks
 
 
 def turned_about(above_of):

@@ -1,8 +1,22 @@
 """Rings: places that can be raised and lowered together so that all sums still hold."""
 
 from tallyveil.errors import NoPlace, TooFar
-from tallyveil.houses import is_whole, plain_place
+from tallyveil.houses import among, is_whole, plain_place
 from tallyveil.sums import ends_of
+
+
+# A step leads from the sum that gives its place 1 to the one that gives it -1, or back where the place is lowered. What
+# it changes in the sum that it leaves is weighed up by the step that comes there; so a walk round is a ring.
+class Web:
+    def __init__(self, house, open_places):
+        ends = ends_of(house)
+        self.ends = {}
+        self.steps_from = {}
+        for place in among(house, open_places):
+            self.ends[place] = ends[place]
+            for step in ((place, 1), (place, -1)):
+                steps = self.steps_from.setdefault(start_of(ends, step), [])
+                steps.append((step, goal_of(ends, step)))
 
 
 def changed(house, table, ring, amount):
@@ -19,61 +33,56 @@ def changed(house, table, ring, amount):
 def ring_through(house, table, open_places, place, way):
     if not is_whole(way) or way not in (1, -1):
         raise NoPlace("the way is neither 1 nor -1")
-    opened = opened_of(house, open_places)
+    web = Web(house, open_places)
     start = plain_place(place)
-    if start not in opened:
+    if start not in web.ends:
         raise NoPlace("the place may not change")
-    ends = ends_of(house)
-    raising = [(one, 1) for one in opened]
-    lowering = [(one, -1) for one in opened if table[one] >= 1]
-    if way == 1:
-        free = shortest_ring(ends, raising, (start, 1))
-        return free if free is not None else shortest_ring(ends, raising + lowering, (start, 1))
-    if (start, -1) not in lowering:
+    free = free_through(web, start) if way == 1 else None
+    return free if free is not None else shortest_ring(web, table, (start, way))
+
+
+def free_through(web, place):
+    # Where nothing can be lowered, free rings are the only ones.
+    nothing = {}
+    for one in web.ends:
+        nothing[one] = 0
+    return shortest_ring(web, nothing, (place, 1))
+
+
+def shortest_ring(web, table, first):
+    if not can_go(table, first):
         return None
-    return shortest_ring(ends, raising + lowering, (start, -1))
+    came_by = reached(web, table, first)
+    one = start_of(web.ends, first)
+    if one not in came_by:
+        return None
+    walk = []
+    while came_by[one] is not None:
+        walk.append(came_by[one])
+        one = start_of(web.ends, came_by[one])
+    return [first] + list(reversed(walk))
 
 
-def opened_of(house, open_places):
-    wanted = {}
-    for place in open_places:
-        wanted[place] = True
-    return [place for place in house.places() if place in wanted]
-
-
-# A step leads from the sum that gives its place 1 to the one that gives it -1, or back where the place is lowered. What
-# it changes in the sum that it leaves is weighed up by the step that comes there; so a walk round is a ring.
-def shortest_ring(ends, steps, first):
-    steps_from = {}
-    for step in steps:
-        if step[0] != first[0]:
-            steps_from.setdefault(start_of(ends, step), []).append(step)
-    walk = shortest_walk(ends, steps_from, goal_of(ends, first), start_of(ends, first))
-    return None if walk is None else [first] + walk
-
-
-def shortest_walk(ends, steps_from, start, goal):
+# The walk ends at the sum from which the first step starts, since there the ring is closed. Where it is never reached,
+# all sums that are reached are told: they show that there is no ring.
+def reached(web, table, first):
+    goal = start_of(web.ends, first)
+    start = goal_of(web.ends, first)
     came_by = {start: None}
     line = [start]
     turn = 0
     while turn < len(line) and goal not in came_by:
         here = line[turn]
-        for step in steps_from.get(here, []):
-            one = goal_of(ends, step)
-            if one not in came_by:
+        for step, one in web.steps_from.get(here, []):
+            if one not in came_by and step[0] != first[0] and can_go(table, step):
                 came_by[one] = step
                 line.append(one)
         turn += 1
-    return walked_back(ends, came_by, goal) if goal in came_by else None
+    return came_by
 
 
-def walked_back(ends, came_by, goal):
-    walk = []
-    one = goal
-    while came_by[one] is not None:
-        walk.append(came_by[one])
-        one = start_of(ends, came_by[one])
-    return list(reversed(walk))
+def can_go(table, step):
+    return step[1] == 1 or table[step[0]] >= 1
 
 
 def start_of(ends, step):

@@ -2,9 +2,14 @@
 
 import itertools
 import random
+import signal
+import unittest
 from collections import OrderedDict, defaultdict, namedtuple
+from contextlib import contextmanager
 
 from tallyveil.houses import House
+from tallyveil.sums import ends_of, sums_of
+from tallyveil.tables import filled, is_table
 
 
 class Sly:
@@ -183,3 +188,167 @@ def one_sign_off(text, signs):
 def dict_kinds(plain):
     """The same dict, of narrower kinds."""
     return [OrderedDict(plain), defaultdict(int, plain)]
+
+
+def square():
+    return House([("a", "all"), ("b", "all")], ["x", "y"])
+
+
+def square_table(*counts):
+    return filled(square(), dict(zip(square().cells(), counts)))
+
+
+def small_houses():
+    """Houses of up to six cells, of all shapes."""
+    return [small_house(), square(), House([("a", "all")], ["x", "y", "z"]),
+            House([("a", "all"), ("b", "a"), ("c", "b")], ["x", "y"]),
+            House([("a", "all"), ("b", "all"), ("c", "all")], ["x", "y"]),
+            House([("a", "all"), ("b", "a"), ("c", "a"), ("d", "all")], ["x", "y"]),
+            House([("a", "all"), ("b", "a"), ("c", "a"), ("d", "b"), ("e", "b")], ["x"])]
+
+
+def filled_by_ways(house, ways):
+    """The whole table of cells that may be below 0: the sums are filled up from a table that is raised by 1."""
+    raised = filled(house, {cell: way + 1 for cell, way in zip(house.cells(), ways)})
+    ones = filled(house, dict.fromkeys(house.cells(), 1))
+    return {place: raised[place] - ones[place] for place in raised}
+
+
+def every_ring(house):
+    """All rings of a small house, as dicts from places to ways: cells by 1, 0 or -1, and so all sums."""
+    rings = []
+    for ways in itertools.product((-1, 0, 1), repeat=len(house.cells())):
+        counts = filled_by_ways(house, ways)
+        if set(counts.values()) <= {-1, 0, 1}:
+            rings.append({place: count for place, count in counts.items() if count})
+    return rings
+
+
+def whole(house, counts):
+    """The whole table of counts for some cells, of any size, with 0 in the others."""
+    table = dict.fromkeys(house.places(), 0)
+    for cell, places in places_above(house).items():
+        for place in places:
+            table[place] += counts.get(cell, 0)
+    return table
+
+
+def reached(house, steps, first):
+    """All sums that steps lead to from the one that the first step leads to, without its place."""
+    ends = ends_of(house)
+    links = [ends[place][::way] for place, way in steps if place != first[0]]
+    found = {ends[first[0]][::first[1]][1]}
+    while True:
+        more = {goal for start, goal in links if start in found} - found
+        if not more:
+            return [one for one in sums_of(house) if one in found]
+        found |= more
+
+
+def places_above(house):
+    """To each cell, all places whose numbers it is part of."""
+    above = {}
+    for row, column in house.cells():
+        parts = [row]
+        while parts[-1] != "all":
+            parts.append(house.above(parts[-1]))
+        above[(row, column)] = [(part, one) for part in parts for one in (column, "all")]
+    return above
+
+
+def every_agreeing(house, numbers):
+    """All whole tables that have the known numbers, and whose cells are no greater than these added up, and one more.
+
+    The numbers of some least and of some greatest table are known numbers, added up and taken from one another, so
+    such tables are among these; and so is one that has more than all known numbers together, just where there is no
+    greatest.
+    """
+    most = sum(numbers.values()) + 1
+    partial = [dict.fromkeys(house.places(), 0)]
+    for cell, places in places_above(house).items():
+        bounded = [place for place in places if place in numbers]
+        partial = [{**table, **{place: table[place] + count for place in places}} for table in partial
+                   for count in range(1 + min([numbers[place] - table[place] for place in bounded] + [most]))]
+    return [table for table in partial if all(table[place] == number for place, number in numbers.items())]
+
+
+def searched_spans(house, numbers):
+    """The span of each place, by a search over all whole tables that agree."""
+    tables, most = every_agreeing(house, numbers), sum(numbers.values())
+    spans = {}
+    for place in house.places():
+        found = [table[place] for table in tables]
+        spans[place] = (min(found), max(found) if max(found) <= most else None)
+    return spans
+
+
+def can_be_searched(house, numbers):
+    """Whether the tables to be looked at are not too many."""
+    most, count = sum(numbers.values()) + 2, 1
+    for places in places_above(house).values():
+        count *= min([numbers[place] + 1 for place in places if place in numbers] + [most])
+    return count <= 3000
+
+
+def some_searchable(chance, house, count):
+    """Tuples of a table of small counts and of known places, of which all tables that agree can be searched."""
+    while count:
+        table = filled(house, {cell: chance.choice([0, 1, 1, 2, 3]) for cell in house.cells()})
+        known = some_known(chance, house)
+        if can_be_searched(house, numbers_of(house, table, known)):
+            count -= 1
+            yield table, known
+
+
+def some_known(chance, house):
+    """Some places in any order, from none to all."""
+    places = shuffled(chance, house.places())
+    return places[:chance.choice([0, len(places) - 1, len(places), chance.randint(0, len(places))])]
+
+
+def numbers_of(house, table, known):
+    return {place: table[place] for place in house.places() if place in known}
+
+
+@contextmanager
+def within(seconds):
+    """Fails what takes longer, in the stead of waiting for it."""
+    def stop(number, frame):
+        raise AssertionError(f"not answered within {seconds} seconds")
+
+    before = signal.signal(signal.SIGALRM, stop)
+    left = signal.alarm(seconds)
+    try:
+        yield
+    finally:
+        signal.alarm(0)
+        signal.signal(signal.SIGALRM, before)
+        # One round this one goes on with what it had left.
+        signal.alarm(left)
+
+
+class Checked(unittest.TestCase):
+    def setUp(self):
+        self.enterContext(within(100))
+
+    def check_ring(self, house, ring):
+        """That it is a ring: changed by it, each sum of whatever whole table still holds."""
+        self.assertIs(ring.__class__, list)
+        for step in ring:
+            self.assertIs(step.__class__, tuple)
+            self.assertIs(step[0].__class__, tuple)
+            self.assertIs(step[1].__class__, int)
+            self.assertIn(step[1], (1, -1))
+            self.assertIn(step[0], house.places())
+        self.assertEqual(len(dict(ring)), len(ring))
+        table = filled(house, dict.fromkeys(house.cells(), 7))
+        for place, way in ring:
+            table[place] += 5 * way
+        self.assertTrue(is_table(house, table), ring)
+
+    def check_agreeing(self, house, table, known, told):
+        """That it is a whole table in the order of places, and has the known numbers."""
+        self.assertIs(told.__class__, dict)
+        self.assertEqual(list(told), house.places())
+        self.assertTrue(is_table(house, told))
+        self.assertEqual(numbers_of(house, told, known), numbers_of(house, table, known))

@@ -7,47 +7,14 @@ import unittest
 from tallyveil.errors import NoPlace, TooFar
 from tallyveil.houses import House
 from tallyveil.rings import changed, ring_through
-from tallyveil.sums import added, ends_of, sums_of
+from tallyveil.sums import added
 from tallyveil.tables import filled, is_table
 from tests import helper
+from tests.helper import every_ring, reached, small_houses, square, square_table
 
 # Two rows and two columns, moved crosswise; and all of one cell's line, up to all.
 CROSS = [(("a", "x"), 1), (("a", "y"), -1), (("b", "y"), 1), (("b", "x"), -1)]
 LINE = [(("a", "x"), 1), (("all", "x"), 1), (("all", "all"), 1), (("a", "all"), 1)]
-
-
-def square():
-    return House([("a", "all"), ("b", "all")], ["x", "y"])
-
-
-def square_table(*counts):
-    return filled(square(), dict(zip(square().cells(), counts)))
-
-
-def small_houses():
-    """Houses of up to six cells, of all shapes."""
-    return [helper.small_house(), square(), House([("a", "all")], ["x", "y", "z"]),
-            House([("a", "all"), ("b", "a"), ("c", "b")], ["x", "y"]),
-            House([("a", "all"), ("b", "all"), ("c", "all")], ["x", "y"]),
-            House([("a", "all"), ("b", "a"), ("c", "a"), ("d", "all")], ["x", "y"]),
-            House([("a", "all"), ("b", "a"), ("c", "a"), ("d", "b"), ("e", "b")], ["x"])]
-
-
-def filled_by_ways(house, ways):
-    """The whole table of cells that may be below 0: the sums are filled up from a table that is raised by 1."""
-    raised = filled(house, {cell: way + 1 for cell, way in zip(house.cells(), ways)})
-    ones = filled(house, dict.fromkeys(house.cells(), 1))
-    return {place: raised[place] - ones[place] for place in raised}
-
-
-def every_ring(house):
-    """All rings of a small house, as dicts from places to ways: cells by 1, 0 or -1, and so all sums."""
-    rings = []
-    for ways in itertools.product((-1, 0, 1), repeat=len(house.cells())):
-        counts = filled_by_ways(house, ways)
-        if set(counts.values()) <= {-1, 0, 1}:
-            rings.append({place: count for place, count in counts.items() if count})
-    return rings
 
 
 def is_free(ring):
@@ -58,34 +25,7 @@ def can_change(table, ring):
     return all(way == 1 or table[place] >= 1 for place, way in ring)
 
 
-def reached(house, steps, first):
-    """All sums that steps lead to from the one that the first step leads to, without its place."""
-    ends = ends_of(house)
-    links = [ends[place][::way] for place, way in steps if place != first[0]]
-    found = {ends[first[0]][::first[1]][1]}
-    while True:
-        more = {goal for start, goal in links if start in found} - found
-        if not more:
-            return [one for one in sums_of(house) if one in found]
-        found |= more
-
-
-class Checked(unittest.TestCase):
-    def check_ring(self, house, ring):
-        """That it is a ring: changed by it, each sum of whatever whole table still holds."""
-        self.assertIs(ring.__class__, list)
-        for step in ring:
-            self.assertIs(step.__class__, tuple)
-            self.assertIs(step[0].__class__, tuple)
-            self.assertIs(step[1].__class__, int)
-            self.assertIn(step[1], (1, -1))
-            self.assertIn(step[0], house.places())
-        self.assertEqual(len(dict(ring)), len(ring))
-        table = filled(house, dict.fromkeys(house.cells(), 7))
-        for place, way in ring:
-            table[place] += 5 * way
-        self.assertTrue(is_table(house, table), ring)
-
+class Checked(helper.Checked):
     def check_answer(self, house, table, opened, place, way):
         """All that is promised of a ring that was told; the ring."""
         ring = ring_through(house, table, opened, place, way)
