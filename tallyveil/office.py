@@ -21,7 +21,9 @@ class Office:
             if place in self.width_of:
                 raise Secret(place)
         would = among(self.kept_house, self.known_places + wanted)
-        check_kept(self.kept_house, self.table, would, self.width_of)
+        # Each secret is kept beside what is known already, and a book may tell that again a thousand times.
+        if would != self.known_places:
+            check_kept(self.kept_house, self.table, would, self.width_of)
         self.known_places = would
         self.let_lists.append(wanted)
 

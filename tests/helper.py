@@ -2,13 +2,15 @@
 
 import itertools
 import random
+import re
 import signal
 import unittest
 from collections import OrderedDict, defaultdict, namedtuple
 from contextlib import contextmanager
 
 from tallyveil.houses import House
-from tallyveil.sums import ends_of, sums_of
+from tallyveil.office import Office
+from tallyveil.sums import ends_of, others_of, sums_of, whole_of
 from tallyveil.tables import filled, is_table
 
 
@@ -57,6 +59,8 @@ class WaywardText(str):
 
 
 Pair = namedtuple("Pair", "part column")
+BLANKS = ("\t", "\r", "\v", "\f", "\0", "\x1c", "\x85", "\u00a0", "\u2003", "\u2028", "\u3000")
+OTHER_FIGURES = ("\u0663", "\u0967", "\uff15", "\u00b2", "\u2160", "\u2075", "\U0001d7d8", "\u4e00")
 
 
 def no_keys():
@@ -85,6 +89,15 @@ def no_whole_numbers():
 def no_things_of(kind):
     things = no_texts() + ["", "a", "all", ["a"], {"a": "all"}, {}, [], (["a"],), range(2)]
     return [thing for thing in things if not isinstance(thing, kind)]
+
+
+def no_places():
+    """Things of all kinds that are no place of the square."""
+    return [("a",), ("a", "x", "x"), ("x", "a"), ("a", "z"), ("c", "x"), ("", ""), ("a", None), (None, "x"), ("a", 1),
+            (Sly("a"), "x"), ("a", Sly("x")), Sly(("a", "x")), "ax", "a x", ["a", "x"],
+            [("a", "x")], (("a", "x"),), ("A", "x"), ("a ", "x"), ("a", b"x"), ("a", ["x"]), "", "a", float("nan"),
+            {("a", "x"): 1}, {"a", "x"}, range(2), (), ([],), ("a", []), ("all",), (("a", "all"), ("b", "x")),
+            ] + [thing for thing in no_texts() if not isinstance(thing, tuple)]
 
 
 def small_house():
@@ -121,6 +134,31 @@ def land_table():
         ("bay", "old"): 50000, ("bay", "sea"): 600000, ("bay", "all"): 650000,
         ("cape", "old"): 7000000, ("cape", "sea"): 80000000, ("cape", "all"): 87000000,
     }
+
+
+def same_house(test, house, other):
+    for method in ("parts", "rows", "columns", "places", "cells"):
+        test.assertEqual(getattr(house, method)(), getattr(other, method)())
+    test.assertEqual([house.above(part) for part in house.parts()], [other.above(part) for part in other.parts()])
+    for part in ["all"] + house.parts():
+        test.assertEqual(house.beneath(part), other.beneath(part))
+
+
+def is_house_text(text):
+    """By the words of the document: rows of parts, then rows of columns, of names that make a house."""
+    parts, columns = [], []
+    for row in text.split("\n"):
+        part = re.fullmatch(r"part ([a-z]{1,8})(?: in ([a-z]{1,8}))?", row)
+        column = re.fullmatch(r"column ([a-z]{1,8})", row)
+        if part and not columns:
+            if part[1] in ["all"] + parts or part[2] is not None and part[2] not in parts:
+                return False
+            parts.append(part[1])
+        elif column and column[1] not in ["all"] + columns:
+            columns.append(column[1])
+        else:
+            return False
+    return 1 <= len(parts) <= 24 and 1 <= len(columns) <= 8
 
 
 def names(count):
@@ -170,6 +208,14 @@ def greatest_house():
     return House([(name, "all") for name in names(24)], names(8))
 
 
+def told_by(office, places=None):
+    """Everything that the office tells."""
+    places = office.house().places() if places is None else places
+    return [list(office.known().items()), office.shut(), list(office.secrets().items()), office.outs(),
+            list(office.whole().items()), office.house().places(), [office.span(place) for place in places],
+            [office.low_sums_of(place) for place in places], [office.high_sums_of(place) for place in places]]
+
+
 def shuffled(chance, things):
     mixed = list(things)
     chance.shuffle(mixed)
@@ -194,8 +240,16 @@ def square():
     return House([("a", "all"), ("b", "all")], ["x", "y"])
 
 
+def square_cells(*counts):
+    return dict(zip(square().cells(), counts))
+
+
 def square_table(*counts):
-    return filled(square(), dict(zip(square().cells(), counts)))
+    return filled(square(), square_cells(*counts))
+
+
+def square_office(secrets, counts=(5, 6, 7, 8)):
+    return Office(square(), square_cells(*counts), secrets)
 
 
 def small_houses():
@@ -310,6 +364,36 @@ def numbers_of(house, table, known):
     return {place: table[place] for place in house.places() if place in known}
 
 
+def given(house, sums):
+    """What sums give to all places, added up one by one as the document says it."""
+    counts = dict.fromkeys(house.places(), 0)
+    for one in sums:
+        column_down = one[0] == "down" and one[2] != "all"
+        sign = 1 if column_down or one == ("across", "all") else -1
+        counts[whole_of(house, one)] += sign
+        for place in others_of(house, one):
+            counts[place] -= sign
+    return counts
+
+
+def reckoned(house, numbers, place, sums):
+    """The tuple (at least, at most) that sums show of a place, as the document says it."""
+    if place in numbers:
+        return (None, None) if sums else (numbers[place], numbers[place])
+    if not sums:
+        return (0, None)
+    counts = given(house, sums)
+    own = counts[place]
+    others = {counts[one] for one in house.places() if one != place and one not in numbers}
+    number = sum(numbers[one] * counts[one] for one in numbers) * (-1 if own == 1 else 1)
+    return (number if own and others <= {-own, 0} else None, number if own and others <= {own, 0} else None)
+
+
+def sums_in(text):
+    """The sums of one side of what the desk shows."""
+    return [tuple(words.split(" ")) for words in text.split("; ")] if text else []
+
+
 @contextmanager
 def within(seconds):
     """Fails what takes longer, in the stead of waiting for it."""
@@ -330,6 +414,12 @@ def within(seconds):
 class Checked(unittest.TestCase):
     def setUp(self):
         self.enterContext(within(100))
+
+    def refuse(self, error, ask, *things):
+        with self.assertRaises(error) as caught:
+            ask(*things)
+        self.assertIs(caught.exception.__class__, error)
+        return caught.exception
 
     def check_ring(self, house, ring):
         """That it is a ring: changed by it, each sum of whatever whole table still holds."""

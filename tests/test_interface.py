@@ -16,6 +16,9 @@ FUNCTIONS = {
               "greatest_table": "house table known place", "free_ring": "house table known place"},
     "papers": {"at_most": "house numbers place sums", "at_least": "house numbers place sums",
                "sums_below": "house table known place", "sums_above": "house table known place"},
+    "wishes": {"parted": "office wish"},
+    "rounding": {"rounded": "house table base"},
+    "books": {"written": "office", "read_book": "text", "handout": "office"},
 }
 CLASSES = {
     "houses": {"House": {"": "parts columns", "parts": "", "rows": "", "columns": "", "above": "part",
@@ -23,6 +26,7 @@ CLASSES = {
     "office": {"Office": {"": "house cells secrets", "let_out": "places", "known": "", "shut": "", "span": "place",
                           "low_sums_of": "place", "high_sums_of": "place", "house": "", "secrets": "", "outs": "",
                           "whole": ""}},
+    "desk": {"Desk": {"": "", "say": "row"}},
 }
 
 

@@ -2,8 +2,10 @@
 
 import ast
 import builtins
+import io
 import pathlib
 import re
+import tokenize
 import unittest
 
 PACKAGE = pathlib.Path(__file__).resolve().parent.parent / "tallyveil"
@@ -33,6 +35,9 @@ EXPRESSIONS = (ast.Constant, ast.List, ast.Tuple, ast.Dict, ast.Set, ast.BinOp, 
 KEYWORDS = {"sorted": ("key", "reverse"), "min": ("key", "default"), "max": ("key", "default"), "sum": ("start",),
             "enumerate": ("start",), "zip": ("strict",)}
 CHANGERS = {"append", "clear", "extend", "insert", "pop", "remove", "reverse", "setdefault", "update"}
+WALKED = {"zip", "enumerate", "reversed", "range", "items", "keys", "values"}
+WALKERS = {"list", "tuple", "dict", "sorted", "sum", "any", "all", "enumerate", "zip", "min", "max", "join"}
+NO_VALUES = CHANGERS | set("items keys values sort args encode format".split())
 
 
 def faults_of_text(text):
@@ -205,10 +210,73 @@ def faults_of_methods(tree, own_methods):
             and node.func.attr not in METHODS | DUNDERS | own_methods]
 
 
+def called_name(node):
+    """The name by which something is called, bare or as a method."""
+    if not isinstance(node, ast.Call):
+        return None
+    return node.func.id if isinstance(node.func, ast.Name) else getattr(node.func, "attr", None)
+
+
+def faults_of_strings(text):
+    strings = [token for token in tokenize.generate_tokens(io.StringIO(text).readline) if token.type == tokenize.STRING]
+    return [("L27", token.start[0]) for token in strings if re.search(r"\\[^nt\\'\"]", token.string)]
+
+
+def faults_by_parent(tree, own_methods):
+    """Rules about what stands within what."""
+    classes = {node.name for node in tree.body if isinstance(node, ast.ClassDef)}
+    classes.update(alias.name for node in tree.body if isinstance(node, ast.ImportFrom) for alias in node.names
+                   if re.match("[A-Z][a-z]", alias.name))
+    faults = []
+    for parent in ast.walk(tree):
+        for child in ast.iter_child_nodes(parent):
+            if called_name(child) in WALKED and not is_walked(parent, child):
+                faults.append(("L23", child.lineno))
+            if isinstance(child, ast.Name) and child.id in classes and not may_name_class(parent, child):
+                faults.append(("L18", child.lineno))
+            if (isinstance(child, ast.Attribute) and isinstance(child.ctx, ast.Load)
+                    and child.attr in METHODS | own_methods and getattr(parent, "func", None) is not child):
+                faults.append(("L25", child.lineno))
+    return faults
+
+
+def is_walked(parent, child):
+    if isinstance(parent, (ast.For, ast.comprehension)):
+        return parent.iter is child
+    return called_name(parent) in WALKERS and parent.args[0] is child
+
+
+def may_name_class(parent, child):
+    if isinstance(parent, ast.Call):
+        return parent.func is child or called_name(parent) == "isinstance"
+    return isinstance(parent, (ast.ClassDef, ast.ExceptHandler, ast.Attribute))
+
+
+def faults_of_kinds(node):
+    """Sets, annotations, kinds that are asked for, and errors of Python's own that are taken: what needs no such thing."""
+    if isinstance(node, ast.Set) or called_name(node) in ("set", "frozenset"):
+        return [("L24", node.lineno)]
+    if isinstance(node, ast.AnnAssign) or getattr(node, "annotation", None) or getattr(node, "returns", None):
+        return [("L21", node.lineno)]
+    if called_name(node) == "isinstance":
+        kinds = node.args[1].elts if isinstance(node.args[1], ast.Tuple) else [node.args[1]]
+        return [] if all(isinstance(kind, ast.Name) for kind in kinds) else [("L22", node.lineno)]
+    if isinstance(node, ast.ExceptHandler) and node.type is not None:
+        taken = {name.id for name in ast.walk(node.type) if isinstance(name, ast.Name)}
+        return [("L19", node.lineno)] if taken & {"ValueError", "LookupError", "IndexError"} else []
+    if isinstance(node, ast.Attribute) and isinstance(node.ctx, ast.Store) and node.attr in NO_VALUES:
+        return [("L26", node.lineno)]
+    if isinstance(node, ast.FunctionDef) and node.name == "__init__":
+        return [("L28", part.lineno) for part in ast.walk(node) if isinstance(part, ast.Return) and part.value]
+    return []
+
+
 def faults_of(text, own_methods=frozenset()):
     tree = ast.parse(text)
     faults = faults_of_text(text) + faults_of_top(tree) + faults_of_methods(tree, own_methods) + faults_of_locals(tree)
+    faults += faults_of_strings(text) + faults_by_parent(tree, own_methods)
     for node in ast.walk(tree):
+        faults.extend(faults_of_kinds(node))
         if isinstance(node, ast.stmt):
             faults.extend(faults_of_statement(node))
         elif isinstance(node, ast.expr):
@@ -295,6 +363,17 @@ class Checks(unittest.TestCase):
             "def f(a):\n    return int(a, base=2)\n": "L22", "def f(a):\n    return dict(b=a)\n": "L22",
             "from tallyveil.sums import added\n\n\ndef f(added):\n    return 1\n": "L15",
             "class A:\n    pass\n\n\ndef f():\n    A = 1\n    return A\n": "L15",
+            "def f(a):\n    return zip(a, a)\n": "L23", "def f(a):\n    b = a.items()\n    return list(b)\n": "L23",
+            "def f(a):\n    return len(range(a))\n": "L23", "def f(a):\n    return sorted([1], key=a.get)\n": "L25",
+            "def f(a):\n    return set(a)\n": "L24", "def f(a):\n    return a in {1, 2}\n": "L24",
+            "def f(a: int):\n    return a\n": "L21", "def f(a) -> int:\n    return a\n": "L21",
+            "def f(a):\n    b: int = a\n    return b\n": "L21", "def f(a, b):\n    return isinstance(a, b.c)\n": "L22",
+            "class A:\n    pass\n\n\ndef f():\n    return [A]\n": "L18",
+            "from tallyveil.houses import House\n\n\ndef f(a):\n    return a(House)\n": "L18",
+            "class A:\n    def __init__(self):\n        self.items = 1\n": "L26",
+            "class A:\n    def __init__(self):\n        return None\n": "L28",
+            "def f(a):\n    try:\n        return int(a)\n    except ValueError:\n        return 1\n": "L19",
+            "X = '\\x41'\n": "L27", "X = '\\0'\n": "L27",
             "class A:\n    x = 1\n": "L5", "# the type\n": "L17", "x = '\u00e4'\n": "L14", "\tx = 1\n".strip() + "\t\n": "L14",
             "# " + "x" * 120 + "\n": "L10", "def f(a):\n" + "    a = 1\n" * 40: "L10", "x = 1\n" + "\n" * 400: "L10",
         }

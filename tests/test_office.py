@@ -13,26 +13,9 @@ from tallyveil.spans import span
 from tallyveil.sums import sums_of
 from tallyveil.tables import filled
 from tests import helper
-from tests.helper import numbers_of, small_houses, square, square_table
+from tests.helper import no_places, numbers_of, small_houses, square, square_cells, square_office, square_table, told_by
 
 SIDES = [("all", "x"), ("all", "y"), ("all", "all"), ("a", "all"), ("b", "all")]
-
-
-def square_cells(*counts):
-    return dict(zip(square().cells(), counts))
-
-
-def square_office(secrets, counts=(5, 6, 7, 8)):
-    return Office(square(), square_cells(*counts), secrets)
-
-
-def no_places():
-    """Things of all kinds that are no place of the square."""
-    return [("a",), ("a", "x", "x"), ("x", "a"), ("a", "z"), ("c", "x"), ("", ""), ("a", None), (None, "x"), ("a", 1),
-            (helper.Sly("a"), "x"), ("a", helper.Sly("x")), helper.Sly(("a", "x")), "ax", "a x", ["a", "x"],
-            [("a", "x")], (("a", "x"),), ("A", "x"), ("a ", "x"), ("a", b"x"), ("a", ["x"]), "", "a", float("nan"),
-            {("a", "x"): 1}, {"a", "x"}, range(2), (), ([],), ("a", []), ("all",), (("a", "all"), ("b", "x")),
-            ] + [thing for thing in helper.no_texts() if not isinstance(thing, tuple)]
 
 
 def no_place_keys():
@@ -47,21 +30,7 @@ def is_key(thing):
         return False
 
 
-def told_by(office, places=None):
-    """Everything that the office tells."""
-    places = office.house().places() if places is None else places
-    return [list(office.known().items()), office.shut(), list(office.secrets().items()), office.outs(),
-            list(office.whole().items()), office.house().places(), [office.span(place) for place in places],
-            [office.low_sums_of(place) for place in places], [office.high_sums_of(place) for place in places]]
-
-
 class Checked(helper.Checked):
-    def refuse(self, error, ask, *things):
-        with self.assertRaises(error) as caught:
-            ask(*things)
-        self.assertIs(caught.exception.__class__, error)
-        return caught.exception
-
     def pinned(self, office, places, place, least, greatest):
         """That letting out is refused with Pinned of these fields, whose sums show both; and changes nothing."""
         before = told_by(office)

@@ -12,37 +12,12 @@ from collections import defaultdict
 from tallyveil.houses import House
 from tallyveil.papers import at_least, at_most, sums_above, sums_below
 from tallyveil.spans import span
-from tallyveil.sums import added, others_of, sums_of, whole_of
+from tallyveil.sums import added, sums_of
 from tallyveil.tables import filled
 from tests import helper
-from tests.helper import numbers_of, small_houses, square, square_table
+from tests.helper import numbers_of, reckoned, small_houses, square, square_table
 
 ROOT = pathlib.Path(__file__).resolve().parent.parent
-
-
-def given(house, sums):
-    """What sums give to all places, added up one by one as the document says it."""
-    counts = dict.fromkeys(house.places(), 0)
-    for one in sums:
-        column_down = one[0] == "down" and one[2] != "all"
-        sign = 1 if column_down or one == ("across", "all") else -1
-        counts[whole_of(house, one)] += sign
-        for place in others_of(house, one):
-            counts[place] -= sign
-    return counts
-
-
-def reckoned(house, numbers, place, sums):
-    """The tuple (at least, at most) that sums show of a place, as the document says it."""
-    if place in numbers:
-        return (None, None) if sums else (numbers[place], numbers[place])
-    if not sums:
-        return (0, None)
-    counts = given(house, sums)
-    own = counts[place]
-    others = {counts[one] for one in house.places() if one != place and one not in numbers}
-    number = sum(numbers[one] * counts[one] for one in numbers) * (-1 if own == 1 else 1)
-    return (number if own and others <= {-own, 0} else None, number if own and others <= {own, 0} else None)
 
 
 class Shown(helper.Checked):

@@ -10,6 +10,7 @@ from tallyveil.houses import House
 from tallyveil.tables import filled
 from tallyveil.texts import read_house, read_numbers, show_house, show_numbers
 from tests import helper
+from tests.helper import BLANKS, OTHER_FIGURES, is_house_text, same_house
 
 LAND_TEXT = ("part north\npart coast in north\npart sea\npart hill in north\npart bay in coast\n"
              "part cape in coast\ncolumn old\ncolumn sea")
@@ -21,37 +22,10 @@ LAND_NUMBERS = ("all: 7050301 80604020 = 87654321\nnorth: 7050300 80604000 = 876
 LAND_NOTHING = "all: * * = *\nnorth: * * = *\ncoast: * * = *\nsea: * * = *\nhill: * * = *\nbay: * * = *\ncape: * * = *"
 PAIR_SOME = "all: 3 * = 0\na: * 12 = *\nb: 40 5 = 17"
 FIGURES = r"(0|[1-9][0-9]{0,39}|\*)"
-BLANKS = ("\t", "\r", "\v", "\f", "\0", "\x1c", "\x85", "\u00a0", "\u2003", "\u2028", "\u3000")
-OTHER_FIGURES = ("\u0663", "\u0967", "\uff15", "\u00b2", "\u2160", "\u2075", "\U0001d7d8", "\u4e00")
 
 
 def pair():
     return House([("a", "all"), ("b", "all")], ["x", "y"])
-
-
-def same_house(test, house, other):
-    for method in ("parts", "rows", "columns", "places", "cells"):
-        test.assertEqual(getattr(house, method)(), getattr(other, method)())
-    test.assertEqual([house.above(part) for part in house.parts()], [other.above(part) for part in other.parts()])
-    for part in ["all"] + house.parts():
-        test.assertEqual(house.beneath(part), other.beneath(part))
-
-
-def is_house_text(text):
-    """By the words of the document: rows of parts, then rows of columns, of names that make a house."""
-    parts, columns = [], []
-    for row in text.split("\n"):
-        part = re.fullmatch(r"part ([a-z]{1,8})(?: in ([a-z]{1,8}))?", row)
-        column = re.fullmatch(r"column ([a-z]{1,8})", row)
-        if part and not columns:
-            if part[1] in ["all"] + parts or part[2] is not None and part[2] not in parts:
-                return False
-            parts.append(part[1])
-        elif column and column[1] not in ["all"] + columns:
-            columns.append(column[1])
-        else:
-            return False
-    return 1 <= len(parts) <= 24 and 1 <= len(columns) <= 8
 
 
 def is_numbers_text(house, text):
