@@ -251,7 +251,8 @@ class Rounds(Checked):
         self.refuse_rows(NoBase, desk, "round 0", f"round {10 ** 18 + 1}", "round 1" + "0" * 39, "round " + "9" * 40)
         self.refuse_rows(NoRow, desk, "round -1", "round +1", "round 05", "round 00", "round 1.0", "round 1e3",
                          "round x", "round 1_000", "round *", "round " + "1" * 41, "round " + "0" * 41,
-                         "round " + "9" * 300, "round True", "round None", *["round " + figure for figure in OTHER_FIGURES],
+                         "round " + "9" * 300, "round True", "round None",
+                         *["round " + figure for figure in OTHER_FIGURES],
                          *["round 1" + figure for figure in OTHER_FIGURES + BLANKS])
         self.assertEqual(told_at(desk), before)
 
@@ -308,8 +309,8 @@ class NoRows(Checked):
     def test_a_word_more_or_less(self):
         self.refuse_at_both("open", "out", "out a", "out all", "out a x b", "out a x b y a", "span", "span a",
                             "span a x b", "span a x b y", "show", "show a", "show a x y", "show a x b y", "try",
-                            "try a", "try a x b", "round", "round 1 2", "round 0 0", "hand a", "hand a x", "book a", "book a x", "hand hand",
-                            "round 1 1 1 1")
+                            "try a", "try a x b", "round", "round 1 2", "round 0 0", "hand a", "hand a x",
+                            "book a", "book a x", "hand hand", "round 1 1 1 1")
 
     def test_two_blanks_or_one_at_an_end(self):
         for row in GOOD + ("open " + BOOK, "open x", "span z z", "round 0"):
